@@ -1,0 +1,1 @@
+"""Takesworks: takes, works and discs, out of the lists of many houses."""
