@@ -1,22 +1,18 @@
 """The custom of a tongue: how its texts are sorted and shown."""
 
 from takesworks.errors import NoCustom
-from takesworks.kinds import is_small_text, is_word
+from takesworks.kinds import are_unlike, is_small_text, is_word
 
 MOST_GROUPS = 40
 LONGEST_LETTER = 2
 MOST_PASSED = 20
 
 
-def are_unlike(texts):
-    return len(set(texts)) == len(texts)
-
-
 def is_group(thing):
     """Whether it is a tuple of one letter or more."""
     if not isinstance(thing, tuple) or len(thing) == 0:
         return False
-    return all([is_small_text(text, LONGEST_LETTER) for text in thing])
+    return all([is_small_text(text, 1, LONGEST_LETTER) for text in thing])
 
 
 def are_letters(thing):

@@ -14,12 +14,27 @@ def is_within(thing, least, most):
     return is_whole(thing) and least <= thing <= most
 
 
-def is_small_text(thing, most):
-    """Whether it is a text of 1 to so many small letters a to z."""
-    if not isinstance(thing, str) or not 1 <= len(thing) <= most:
+def is_text_of(thing, signs, least, most):
+    """Whether it is a text of so many of these signs."""
+    if not isinstance(thing, str) or not least <= len(thing) <= most:
         return False
-    return all([sign in SMALL_LETTERS for sign in thing])
+    return all([sign in signs for sign in thing])
+
+
+def is_small_text(thing, least, most):
+    """Whether it is a text of so many small letters a to z."""
+    return is_text_of(thing, SMALL_LETTERS, least, most)
 
 
 def is_word(thing):
-    return is_small_text(thing, LONGEST_WORD)
+    return is_small_text(thing, 1, LONGEST_WORD)
+
+
+def are_unlike(things):
+    """Whether none of the texts, or tuples of texts, stands there twice."""
+    return len(set(things)) == len(things)
+
+
+def are_rising(things):
+    """Whether each of these, which can be compared, is more than the one ahead of it."""
+    return all([one < other for one, other in zip(things, things[1:])])

@@ -13,8 +13,15 @@ INTERFACE = {
     "days": ["Day", "earliest", "latest", "may_be", "by_day"],
     "lengths": ["Length", "together", "apart"],
     "customs": ["Custom"],
+    "names": ["is_name"],
+    "namebook": ["Names"],
+    "entries": ["is_entry", "field_of"],
+    "rules": ["are_rules", "alike", "agree", "why"],
 }
-METHODS = {"Custom": ["letters_in", "bare", "rank", "in_order", "shown", "read"]}
+METHODS = {
+    "Custom": ["letters_in", "bare", "rank", "in_order", "shown", "read"],
+    "Names": ["tell", "strike", "are_one", "class_of", "classes", "chain", "shows_chain", "shows_apart", "called"],
+}
 BUILTINS = set("""len range enumerate zip min max sum abs sorted reversed int str bool bytes list tuple dict set
     isinstance ord repr any all divmod iter next super property staticmethod classmethod Exception ValueError TypeError
     KeyError IndexError LookupError ZeroDivisionError ArithmeticError OverflowError RuntimeError NotImplementedError

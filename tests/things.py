@@ -37,6 +37,11 @@ def tuples():
             nested(30, lambda thing: ([thing],))]
 
 
+def anything():
+    """Things of every kind."""
+    return [None, 0, 1, *strangers(), *truths(), *texts(), *tuples(), *beyond()]
+
+
 def beyond():
     """Whole numbers that no bound lets in, up to thirty figures."""
     return [-1, -(10 ** 29), 10 ** 29, 10 ** 30 - 1]
