@@ -9,3 +9,8 @@ def book(*pairs):
     for one, other in pairs:
         names.tell(one, other)
     return names
+
+
+def entry(key, code=None, title=None, players=None, day=None, length=None):
+    """An entry that tells only what is handed in."""
+    return (*key, code, title, players, day, length)

@@ -17,10 +17,15 @@ INTERFACE = {
     "namebook": ["Names"],
     "entries": ["is_entry", "field_of"],
     "rules": ["are_rules", "alike", "agree", "why"],
+    "takes": ["takes", "joined", "shows_joined", "shows_parted"],
+    "clashing": ["clashes_in"],
+    "listings": ["Listing"],
+    "showing": ["show_entry", "show_work"],
 }
 METHODS = {
     "Custom": ["letters_in", "bare", "rank", "in_order", "shown", "read"],
     "Names": ["tell", "strike", "are_one", "class_of", "classes", "chain", "shows_chain", "shows_apart", "called"],
+    "Listing": ["put", "told", "joined", "entries", "clashes", "__len__", "__eq__", "__str__", "__repr__"],
 }
 BUILTINS = set("""len range enumerate zip min max sum abs sorted reversed int str bool bytes list tuple dict set
     isinstance ord repr any all divmod iter next super property staticmethod classmethod Exception ValueError TypeError
