@@ -17,6 +17,10 @@ def show_key(key):
     return f"{house} {number}"
 
 
+def show_keys(keys):
+    return ", ".join([show_key(key) for key in keys])
+
+
 def show_told(field, thing):
     """What is told in this field, with its word."""
     if field == "title":

@@ -20,12 +20,17 @@ INTERFACE = {
     "takes": ["takes", "joined", "shows_joined", "shows_parted"],
     "clashing": ["clashes_in"],
     "listings": ["Listing"],
+    "works": ["is_work", "leaves", "path_to", "part_at", "span_of"],
+    "ordering": ["most_in_order", "heights", "shows_most"],
+    "discs": ["Disc"],
+    "wishes": ["fewest_discs", "shows_held"],
     "showing": ["show_entry", "show_work"],
 }
 METHODS = {
     "Custom": ["letters_in", "bare", "rank", "in_order", "shown", "read"],
     "Names": ["tell", "strike", "are_one", "class_of", "classes", "chain", "shows_chain", "shows_apart", "called"],
     "Listing": ["put", "told", "joined", "entries", "clashes", "__len__", "__eq__", "__str__", "__repr__"],
+    "Disc": ["__init__", "__len__", "__eq__", "__str__", "__repr__"],
 }
 BUILTINS = set("""len range enumerate zip min max sum abs sorted reversed int str bool bytes list tuple dict set
     isinstance ord repr any all divmod iter next super property staticmethod classmethod Exception ValueError TypeError
@@ -160,6 +165,17 @@ class Code(unittest.TestCase):
             for node in ast.walk(tree):
                 if isinstance(node, ast.Name) and isinstance(node.ctx, ast.Load):
                     self.assertIn(node.id, known | BUILTINS, f"{path.name}:{node.lineno}")
+
+    def test_no_variable_has_the_name_of_a_class_or_an_import_of_its_file(self):
+        for path, tree in trees():
+            taken = {node.name for node in tree.body if isinstance(node, ast.ClassDef)}
+            taken.update(name.asname or name.name for node in tree.body if isinstance(node, ast.ImportFrom)
+                         for name in node.names)
+            for node in ast.walk(tree):
+                if isinstance(node, (ast.FunctionDef, ast.Lambda)):
+                    self.assertEqual({argument.arg for argument in arguments_of(node)} & taken, set(), path.name)
+                if isinstance(node, ast.Name) and isinstance(node.ctx, ast.Store):
+                    self.assertNotIn(node.id, taken, f"{path.name}:{node.lineno}")
 
     def test_methods_and_attributes(self):
         stored, methods = attributes_and_methods()
