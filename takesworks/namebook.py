@@ -11,6 +11,15 @@ def other_end(pair, name):
     return pair[1] if pair[0] == name else pair[0]
 
 
+def refuse_unless_two_names(one, other):
+    """Refuses things, of any kind, that are not two unlike names."""
+    for name in (one, other):
+        if not is_name(name):
+            raise NoName(name)
+    if one == other:
+        raise Same(one)
+
+
 class Names:
     """Tellings that two names are one's, numbered from 0; those that were struck count no more."""
 
@@ -28,11 +37,7 @@ class Names:
 
     def tell(self, one, other):
         """Two names are one's; the telling's number."""
-        for name in (one, other):
-            if not is_name(name):
-                raise NoName(name)
-        if one == other:
-            raise Same(one)
+        refuse_unless_two_names(one, other)
         number = self.many
         self.many += 1
         self.counting[number] = (one, other)

@@ -38,4 +38,4 @@ def shows_held(held, wishes, thing):
     """Whether the thing, of any kind, is a rising tuple of numbers of discs that hold all wishes together."""
     if not isinstance(thing, tuple) or not all([is_within(number, 0, len(held) - 1) for number in thing]):
         return False
-    return are_rising(thing) and all([any([wish in held[number] for number in thing]) for wish in wishes])
+    return are_rising(thing) and all([any([wish in held[disc] for disc in thing]) for wish in wishes])

@@ -23,14 +23,21 @@ INTERFACE = {
     "works": ["is_work", "leaves", "path_to", "part_at", "span_of"],
     "ordering": ["most_in_order", "heights", "shows_most"],
     "discs": ["Disc"],
+    "shelves": ["Shelf"],
     "wishes": ["fewest_discs", "shows_held"],
+    "books": ["book_of", "shows_none"],
     "showing": ["show_entry", "show_work"],
+    "reading": ["read_day", "read_length", "read_name", "read_entry", "read_disc", "read_work", "read_listing"],
+    "desk": ["Desk"],
 }
 METHODS = {
     "Custom": ["letters_in", "bare", "rank", "in_order", "shown", "read"],
     "Names": ["tell", "strike", "are_one", "class_of", "classes", "chain", "shows_chain", "shows_apart", "called"],
     "Listing": ["put", "told", "joined", "entries", "clashes", "__len__", "__eq__", "__str__", "__repr__"],
     "Disc": ["__init__", "__len__", "__eq__", "__str__", "__repr__"],
+    "Shelf": ["put", "one", "same", "lay", "undo", "leaning", "takes", "joined", "entries", "discs", "classes", "clashes",
+              "leads", "rows_of", "rows_of_take", "played", "titles_in", "discs_for", "__init__", "__len__"],
+    "Desk": ["__init__", "say"],
 }
 BUILTINS = set("""len range enumerate zip min max sum abs sorted reversed int str bool bytes list tuple dict set
     isinstance ord repr any all divmod iter next super property staticmethod classmethod Exception ValueError TypeError
